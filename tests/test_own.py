@@ -1,0 +1,81 @@
+"""What is handed in stays, what is told is its asker's own, and asked again the same is told."""
+
+import unittest
+
+from common import kept_as_it_was, kinds, sample_signs
+from likefill.terms import alike, flat, is_ahead, is_term, leaves, wishes
+from likefill.texts import read, write
+
+LISTS = ["s", ["s", "z", ["f", "?y"]], ("u", ["g", "b", "?x"], "a"), "z", ["t", "o", "o"]]
+FLAT = ("s", "o", ("f", "?y"), ("u", "a", ("g", "b", "?x")))
+
+
+def fresh():
+    return ["s", ["s", "z", ["f", "?y"]], ("u", ["g", "b", "?x"], "a"), "z", ["t", "o", "o"]]
+
+
+class HandedIn(unittest.TestCase):
+    def test_is_as_it_was_behind_each_call(self):
+        signs = sample_signs()
+        for call in (is_term, flat, leaves, wishes, write):
+            kept_as_it_was(self, lambda term: call(signs, term), fresh())
+        for call in (alike, is_ahead):
+            kept_as_it_was(self, lambda one, other: call(signs, one, other), fresh(), ["g", ["s", "b", "a"], "a"])
+
+    def test_is_as_it_was_behind_a_refusal(self):
+        signs = sample_signs()
+        wrong = ["s", ["s", "b", "a"], ["f", "nix"]]
+        for call in (flat, leaves, wishes, write):
+            with self.assertRaises(ValueError):
+                call(signs, wrong)
+        self.assertEqual(kinds(wrong), kinds(["s", ["s", "b", "a"], ["f", "nix"]]))
+
+    def test_may_be_changed_later(self):
+        signs, term = sample_signs(), fresh()
+        told_flat, told_wishes, told_text = flat(signs, term), wishes(signs, term), write(signs, term)
+        term[1][2][1] = "b"
+        term[2][1].clear()
+        term.append("a")
+        self.assertEqual(kinds(told_flat), kinds(FLAT))
+        self.assertEqual(told_wishes, ["?x", "?y"])
+        self.assertEqual(told_text, "s(s(z,f(?y)),u(g(b,?x),a),z,t(o,o))")
+
+    def test_a_term_with_one_list_in_two_places(self):
+        signs, part = sample_signs(), ["s", "b", "a"]
+        term = ["g", part, part]
+        told = flat(signs, term)
+        part[1] = "?x"
+        self.assertEqual(told, ("g", ("s", "a", "b"), ("s", "a", "b")))
+        self.assertEqual(flat(signs, term), ("g", ("s", "?x", "a"), ("s", "?x", "a")))
+
+    def test_signs_stay(self):
+        signs = sample_signs()
+        for call in (is_term, flat, leaves, wishes, write):
+            call(signs, fresh())
+        read(signs, "s(a,b)")
+        self.assertEqual((signs.fixed(), signs.sums()), (sample_signs().fixed(), sample_signs().sums()))
+
+
+class Told(unittest.TestCase):
+    def test_wishes_changed_later(self):
+        signs, term = sample_signs(), fresh()
+        wishes(signs, term).append("?z")
+        wishes(signs, term).clear()
+        self.assertEqual(wishes(signs, term), ["?x", "?y"])
+        self.assertEqual(kinds(term), kinds(LISTS))
+
+    def test_terms_told_hold_no_list(self):
+        signs = sample_signs()
+        self.assertEqual(kinds(flat(signs, fresh())), kinds(FLAT))
+        self.assertEqual(kinds(read(signs, "s(f(a),g(a,?x))")), kinds(("s", ("f", "a"), ("g", "a", "?x"))))
+
+    def test_asked_again(self):
+        signs = sample_signs()
+        for call in (is_term, flat, leaves, wishes, write):
+            self.assertEqual(kinds(call(signs, fresh())), kinds(call(signs, fresh())))
+            self.assertEqual(kinds(call(signs, fresh())), kinds(call(sample_signs(), fresh())))
+        self.assertEqual(read(signs, "s(b,a)"), read(signs, "s(b,a)"))
+
+
+if __name__ == "__main__":
+    unittest.main()
