@@ -78,14 +78,19 @@ def order_key(term):
     return [order_mark(at) for at in walked(term)]
 
 
+def opened(name, term):
+    """The parts of a flat term that is the sum of that name; of any other it alone."""
+    if isinstance(term, tuple) and term[0] == name:
+        return list(term[1:])
+    return [term]
+
+
 def flat_sum(name, nought, parts):
     """The flat form of a sum whose parts are flat."""
     left = []
     for part in parts:
-        if isinstance(part, tuple) and part[0] == name:
-            left.extend(part[1:])
-        elif part != nought:
-            left.append(part)
+        if part != nought:
+            left.extend(opened(name, part))
     if not left:
         return nought
     if len(left) == 1:
@@ -101,18 +106,31 @@ def flat_of_parts(signs, name, parts):
     return flat_sum(name, nought, parts)
 
 
-def flat(signs, term):
-    """The flat form of the term."""
-    check_term(signs, term)
+def from_within(term, filling, whole):
+    """What is made of the term, parts first: whole(name, parts) of a name and what its parts became.
+
+    A wish that the filling has becomes the filling's term; every other text stays.
+    """
     made = []
     # Walked backwards, all parts are made ahead of their whole, the first part last.
     for at in reversed(walked(term)):
         if isinstance(at, str):
-            made.append(at)
+            made.append(filling.get(at, at))
         else:
             parts = [made.pop() for part in at[1:]]
-            made.append(flat_of_parts(signs, at[0], parts))
+            made.append(whole(at[0], parts))
     return made[0]
+
+
+def put_in(signs, filling, term):
+    """The flat form of the term with its wishes filled; all terms of the filling are flat."""
+    return from_within(term, filling, lambda name, parts: flat_of_parts(signs, name, parts))
+
+
+def flat(signs, term):
+    """The flat form of the term."""
+    check_term(signs, term)
+    return put_in(signs, {}, term)
 
 
 def flat_key(signs, term):

@@ -72,6 +72,8 @@ def as_lists(term):
 
 def kinds(thing):
     """The thing with the class of each of its parts beside it, so that a tuple is told from a list."""
+    if isinstance(thing, dict):
+        return ("dict", sorted((key, kinds(value)) for key, value in thing.items()))
     if isinstance(thing, (list, tuple)):
         return (type(thing).__name__, [kinds(part) for part in thing])
     return (type(thing).__name__, thing)
@@ -83,3 +85,15 @@ def kept_as_it_was(case, call, *handed):
     told = call(*handed)
     case.assertEqual([kinds(thing) for thing in handed], [kinds(thing) for thing in before])
     return told
+
+
+def spoil(thing):
+    """Empty every list and dict within the thing."""
+    if isinstance(thing, (list, tuple)):
+        for part in thing:
+            spoil(part)
+    if isinstance(thing, dict):
+        for part in thing.values():
+            spoil(part)
+    if isinstance(thing, (list, dict)):
+        thing.clear()

@@ -53,6 +53,17 @@ def top_names(tree):
     return found + [node.targets[0].id for node in tree.body if isinstance(node, ast.Assign)]
 
 
+def is_plain(node, names):
+    """Whether a value at a file's top is plain, or made of plain ones and of the names."""
+    if isinstance(node, ast.Name):
+        return node.id in names
+    if isinstance(node, ast.Dict):
+        return all(is_plain(each, names) for each in node.keys + node.values)
+    if isinstance(node, (ast.List, ast.Tuple)):
+        return all(is_plain(each, names) for each in node.elts)
+    return isinstance(node, ast.Constant)
+
+
 def is_docstring(node):
     return isinstance(node, ast.Expr) and isinstance(node.value, ast.Constant) and isinstance(node.value.value, str)
 
@@ -88,7 +99,8 @@ class Tops(unittest.TestCase):
             for node in tree.body[1:]:
                 self.assertIsInstance(node, (ast.ImportFrom, ast.FunctionDef, ast.ClassDef, ast.Assign), (name, node.lineno))
                 if isinstance(node, ast.Assign):
-                    ast.literal_eval(node.value)
+                    above = [each.name for each in tree.body if isinstance(each, ast.FunctionDef) and each.lineno < node.lineno]
+                    self.assertTrue(is_plain(node.value, above), (name, node.lineno))
             bound = top_names(tree) + [each.name for node in tree.body if isinstance(node, ast.ImportFrom) for each in node.names]
             self.assertEqual(len(bound), len(set(bound)), name)
 

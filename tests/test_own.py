@@ -1,10 +1,15 @@
 """What is handed in stays, what is told is its asker's own, and asked again the same is told."""
 
+import copy
 import unittest
 
-from common import kept_as_it_was, kinds, sample_signs
+from common import kept_as_it_was, kinds, sample_signs, spoil
+from likefill.fillings import filled, further, kept, looked_over, new_wishes
+from likefill.rows import holds, least_rows, made_of
+from likefill.steps import done, paired
 from likefill.terms import alike, flat, is_ahead, is_term, leaves, wishes
 from likefill.texts import read, write
+from likefill.walks import walk
 
 LISTS = ["s", ["s", "z", ["f", "?y"]], ("u", ["g", "b", "?x"], "a"), "z", ["t", "o", "o"]]
 FLAT = ("s", "o", ("f", "?y"), ("u", "a", ("g", "b", "?x")))
@@ -75,6 +80,58 @@ class Told(unittest.TestCase):
             self.assertEqual(kinds(call(signs, fresh())), kinds(call(signs, fresh())))
             self.assertEqual(kinds(call(signs, fresh())), kinds(call(sample_signs(), fresh())))
         self.assertEqual(read(signs, "s(b,a)"), read(signs, "s(b,a)"))
+
+
+def filling():
+    return {"?x": ["s", ["s", "b", "z"], "a"], "?y": ("f", ["g", "?x", "?y"]), "?w": ["s", "z", "?w"]}
+
+
+# what takes signs first, and what takes none
+WITH_SIGNS = [
+    (looked_over, lambda: [filling()]), (filled, lambda: [filling(), fresh()]), (further, lambda: [filling(), {"?x": ["f", "a"], "?v": ["s", "b", "a"]}]),
+    (kept, lambda: [filling(), ["?y", "?x", "?v"]]), (paired, lambda: [fresh()]), (done, lambda: [fresh(), ["turn", [1, 0], "u"]]),
+    (walk, lambda: [["s", ["s", "b", "a"], ["f", ["s", "z", "a"]]], ["s", ["f", "a"], "a", ["s", "z", "b"]]]), (walk, lambda: [fresh(), ["f", "a"]]),
+]
+
+WITHOUT_SIGNS = [
+    (new_wishes, lambda: [3, ["?1", "?x"]]), (holds, lambda: [[1, 2], [2], [2, 1, 2]]), (least_rows, lambda: [[1, 2], [2]]),
+    (made_of, lambda: [[1, 2], [2], [2, 1, 2]]),
+]
+
+
+class EveryCall(unittest.TestCase):
+    def calls(self):
+        signs = sample_signs()
+        with_signs = [(lambda *handed, call=call: call(signs, *handed), make) for call, make in WITH_SIGNS]
+        return with_signs + WITHOUT_SIGNS
+
+    def test_handed_in_stays(self):
+        for call, make in self.calls():
+            kept_as_it_was(self, call, *make())
+
+    def test_handed_in_may_be_changed_later(self):
+        for call, make in self.calls():
+            handed = make()
+            told = call(*handed)
+            before = copy.deepcopy(told)
+            spoil(handed)
+            self.assertEqual(kinds(told), kinds(before))
+            self.assertEqual(kinds(call(*make())), kinds(before))
+
+    def test_told_may_be_changed_later(self):
+        for call, make in self.calls():
+            handed = make()
+            told = call(*handed)
+            before = copy.deepcopy(told)
+            spoil(told)
+            self.assertEqual(kinds(handed), kinds(make()))
+            self.assertEqual(kinds(call(*handed)), kinds(before))
+
+    def test_flat_things_handed_in_are_not_what_is_told(self):
+        signs, flat_filling = sample_signs(), {"?x": "a"}
+        for told in (looked_over(signs, flat_filling), further(signs, flat_filling, {}), further(signs, {}, flat_filling), kept(signs, flat_filling, ["?x"])):
+            told["?y"] = "b"
+            self.assertEqual(flat_filling, {"?x": "a"})
 
 
 if __name__ == "__main__":
