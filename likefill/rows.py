@@ -53,10 +53,8 @@ def holds(left, right, row):
 def least_rows(left, right):
     """The least rows of the equation, as lists are compared."""
     check_equation(left, right)
-    # No number of a least row is above the greatest one on the other side.
-    most = [max(right, default=0)] * len(left) + [max(left, default=0)] * len(right)
-    foes = [[] for bound in most]
-    return [list(row) for row in grown_rows(signed(left, right), most, foes)]
+    sizes = [(size,) for size in signed(left, right)]
+    return [list(row) for row in grown_rows(sizes, [[] for size in sizes])]
 
 
 def made_of(left, right, row):
@@ -72,22 +70,23 @@ def made_of(left, right, row):
     return counts
 
 
-def grown_rows(sizes, most, foes):
-    """The least rows whose weight by the sizes is 0, as tuples, in order.
+def grown_rows(sizes, foes):
+    """The least rows that hold in several equations at once, as tuples, in order.
 
-    No number is above the one in most at its place; and where a row has a number at a place,
-    it has 0 at the places that foes lists there. Sizes on the two sides are above and below 0.
+    For each place in a row, sizes has a tuple of its sizes in the equations, above 0 on the left
+    and below 0 on the right; and foes has the places at which there is nothing when one more is
+    put there (the place itself, where it may have but one).
     """
     found = []
-    level = {unit(place, len(sizes)): size for place, size in enumerate(sizes) if size > 0 and most[place] > 0}
+    level = {unit(place, len(sizes)): size for place, size in enumerate(sizes)}
     while level:
-        found.extend([row for row, over in level.items() if over == 0])
+        found.extend([row for row, over in level.items() if not any(over)])
         grown = {}
         for row, over in level.items():
             for place, size in enumerate(sizes):
-                # Only what brings the weight towards 0 can lead to a least row.
-                if over * size < 0 and has_room(row, place, most, foes):
-                    grown[one_more(row, place)] = over + size
+                # Only what goes against the weight so far can lead to a least row.
+                if weight(over, size) < 0 and not any([row[foe] > 0 for foe in foes[place]]):
+                    grown[one_more(row, place)] = tuple([one + other for one, other in zip(over, size)])
         level = {row: over for row, over in grown.items() if not any([is_under(least, row) for least in found])}
     return sorted(found)
 
@@ -95,11 +94,6 @@ def grown_rows(sizes, most, foes):
 def unit(place, many):
     """A row of so many numbers with 1 at the place, else 0."""
     return (0,) * place + (1,) + (0,) * (many - place - 1)
-
-
-def has_room(row, place, most, foes):
-    """Whether the row may have one more at the place."""
-    return row[place] < most[place] and not any([row[foe] > 0 for foe in foes[place]])
 
 
 def one_more(row, place):

@@ -67,7 +67,7 @@ def walked(term):
 def order_mark(term):
     """What the order asks of the term itself, its parts left aside."""
     if isinstance(term, str):
-        return (0 if is_wish(term) else 1, term, 0)
+        return (0 if term[0] == "?" else 1, term, 0)
     return (2, term[0], len(term))
 
 
@@ -75,6 +75,8 @@ def order_key(term):
     """A list by which terms compare as the order of flat terms has it."""
     # Two walks go through like terms up to the first place where the terms differ, so
     # comparing marks one by one compares the parts one by one.
+    if isinstance(term, str):
+        return [order_mark(term)]
     return [order_mark(at) for at in walked(term)]
 
 

@@ -3,7 +3,9 @@
 import copy
 import itertools
 
+from likefill.fillings import filled, looked_over, new_wishes
 from likefill.signs import Signs
+from likefill.terms import flat_of_parts, is_wish, put_in, wishes
 
 
 def sample_signs():
@@ -12,6 +14,11 @@ def sample_signs():
         [("a", 0), ("b", 0), ("z", 0), ("o", 0), ("f", 1), ("g", 2), ("h", 3)],
         [("s", "z"), ("t", "o"), ("u", "")],
     )
+
+
+def bare_signs():
+    """Fixed a, b, c, f/1, g/2; the sums s and t, both without a nought."""
+    return Signs([("a", 0), ("b", 0), ("c", 0), ("f", 1), ("g", 2)], [("s", ""), ("t", "")])
 
 
 class Prickly:
@@ -97,3 +104,111 @@ def spoil(thing):
             spoil(part)
     if isinstance(thing, (list, dict)):
         thing.clear()
+
+
+def parts_in(signs, name, thing):
+    """The parts of a flat term under the sum of that name."""
+    if thing == signs.nought(name):
+        return []
+    return list(thing[1:]) if isinstance(thing, tuple) and thing[0] == name else [thing]
+
+
+def less(things, taken):
+    """The things without those taken, or None where they are not all there."""
+    left = list(things)
+    for thing in taken:
+        if thing not in left:
+            return None
+        left.remove(thing)
+    return left
+
+
+def some_of(things):
+    """All ways to take some of the things, alike ones by how many."""
+    different = [thing for place, thing in enumerate(things) if thing not in things[:place]]
+    for row in itertools.product(*[range(things.count(thing) + 1) for thing in different]):
+        yield [thing for thing, many in zip(different, row) for time in range(many)]
+
+
+def matches(signs, pairs, found):
+    """All fillings beyond the found one that make the first of each pair the second, a flat term that stays as it is.
+
+    Where a sum has a nought, its parts in the first ones are to be wishes or without wishes.
+    """
+    if not pairs:
+        yield found
+        return
+    (pattern, thing), rest = pairs[0], pairs[1:]
+    if is_wish(pattern):
+        if found.get(pattern, thing) == thing:
+            yield from matches(signs, rest, {**found, pattern: thing})
+    elif isinstance(pattern, str):
+        if pattern == thing:
+            yield from matches(signs, rest, found)
+    elif signs.nought(pattern[0]) is not None:
+        parts = sorted(pattern[1:], key=is_wish)
+        yield from sum_matches(signs, pattern[0], parts, parts_in(signs, pattern[0], thing), rest, found)
+    elif isinstance(thing, tuple) and thing[0] == pattern[0]:
+        yield from matches(signs, list(zip(pattern[1:], thing[1:])) + rest, found)
+
+
+def sum_matches(signs, name, parts, things, rest, found):
+    """All fillings beyond the found one that share the things out among the parts, and make the rest alike, too."""
+    if not parts:
+        if not things:
+            yield from matches(signs, rest, found)
+        return
+    part = ([each for each in parts if each in found] or parts)[0]
+    others = less(parts, [part])
+    if not is_wish(part):
+        for taken in [thing for place, thing in enumerate(things) if thing not in things[:place]]:
+            for more in matches(signs, [(part, taken)], found):
+                yield from sum_matches(signs, name, others, less(things, [taken]), rest, more)
+    elif part in found:
+        left = less(things, parts_in(signs, name, found[part]))
+        if left is not None:
+            yield from sum_matches(signs, name, others, left, rest, found)
+    else:
+        for taken in some_of(things):
+            if taken or signs.nought(name) != "":
+                got = flat_of_parts(signs, name, taken)
+                yield from sum_matches(signs, name, others, less(things, taken), rest, {**found, part: got})
+
+
+def goes_through(signs, one, other, some):
+    """Whether the other filling is, on some wishes, the one further by some filling; both looked over."""
+    pairs = sorted([(one.get(wish, wish), other.get(wish, wish)) for wish in some], key=str)
+    return next(matches(signs, pairs, {}), None) is not None
+
+
+def wishes_of_two(signs, one, other):
+    return sorted({*wishes(signs, one), *wishes(signs, other)})
+
+
+def assert_make_alike(case, signs, one, other, fillings):
+    """Each filling is looked over, fills wishes of the two alone by terms of these and of new ones, and makes them alike."""
+    names = wishes_of_two(signs, one, other)
+    case.assertIs(type(fillings), list)
+    for filling in fillings:
+        case.assertEqual(kinds(looked_over(signs, filling)), kinds(filling))
+        case.assertLessEqual(set(filling), set(names))
+        for term in filling.values():
+            case.assertLessEqual(set(wishes(signs, term)), set(names) | set(new_wishes(40, names)))
+        case.assertEqual(filled(signs, filling, one), filled(signs, filling, other), (one, other, filling))
+
+
+def assert_none_missing(case, signs, one, other, fillings, universe):
+    """Each way to fill the wishes of the two out of the universe that makes them alike is one of the fillings further."""
+    names = wishes_of_two(signs, one, other)
+    for row in itertools.product(universe, repeat=len(names)):
+        filling = dict(zip(names, row))
+        if put_in(signs, filling, one) == put_in(signs, filling, other):
+            through = any(goes_through(signs, told, filling, names) for told in fillings)
+            case.assertTrue(through, (one, other, filling))
+
+
+def assert_none_too_many(case, signs, one, other, fillings):
+    """None of the fillings is another one of them further."""
+    names = wishes_of_two(signs, one, other)
+    for told, another in itertools.permutations(fillings, 2):
+        case.assertFalse(goes_through(signs, told, another, names), (one, other, told, another))

@@ -172,6 +172,8 @@ class Rows(unittest.TestCase):
                    for row in node.body if isinstance(row, ast.FunctionDef)}
         values = {node.attr for name, node in all_nodes() if isinstance(node, ast.Attribute) and isinstance(node.ctx, ast.Store)}
         self.assertEqual(methods & values, set())
+        for sort in (str, int, list, dict, set, bytes):
+            self.assertEqual(values & set(dir(sort)), set())
         for name, node in all_nodes():
             if isinstance(node, ast.Attribute) and isinstance(node.ctx, ast.Load):
                 self.assertIn(node.attr, methods | OWN_METHODS | values, (name, node.lineno))

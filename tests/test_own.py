@@ -3,9 +3,13 @@
 import copy
 import unittest
 
-from common import kept_as_it_was, kinds, sample_signs, spoil
+from common import bare_signs, kept_as_it_was, kinds, sample_signs, spoil
 from likefill.fillings import filled, further, kept, looked_over, new_wishes
+from likefill.onesum import one_sum, rest_paper
 from likefill.rows import holds, least_rows, made_of
+from likefill.shares import shares
+from likefill.sides import is_side, parts_under, summed
+from likefill.solving import solved
 from likefill.steps import done, paired
 from likefill.terms import alike, flat, is_ahead, is_term, leaves, wishes
 from likefill.texts import read, write
@@ -91,19 +95,28 @@ WITH_SIGNS = [
     (looked_over, lambda: [filling()]), (filled, lambda: [filling(), fresh()]), (further, lambda: [filling(), {"?x": ["f", "a"], "?v": ["s", "b", "a"]}]),
     (kept, lambda: [filling(), ["?y", "?x", "?v"]]), (paired, lambda: [fresh()]), (done, lambda: [fresh(), ["turn", [1, 0], "u"]]),
     (walk, lambda: [["s", ["s", "b", "a"], ["f", ["s", "z", "a"]]], ["s", ["f", "a"], "a", ["s", "z", "b"]]]), (walk, lambda: [fresh(), ["f", "a"]]),
+    (parts_under, lambda: ["s", fresh()]), (summed, lambda: ["s", [fresh(), ["f", ["s", "b", "a"]]]]), (is_side, lambda: ["s", fresh()]),
+    (one_sum, lambda: ["u", ["u", "?x", "?y", ["s", "b", "a"]], ["u", "?z", ["s", "z", "b"], ["u", "a", "?x"]]]),
+    (one_sum, lambda: ["s", ["s", "?x", "a"], ["s", "a", "?x"]]), (rest_paper, lambda: ["s", ["s", "?x", "?x"], ["s", ["f", ["s", "b", "a"]], "z"]]),
+]
+
+WITH_BARE_SIGNS = [
+    (solved, lambda: [["s", "?x", ["f", ["s", "?y", "b"]]], ["s", ["f", ["s", "b", "a"]], ["t", "b", "a"]]]), (solved, lambda: [["s", "?x", "?y"], ["s", "?z", ["f", "a"]]]),
+    (solved, lambda: [["s", "?x", "a"], ["s", "a", "?x"]]),
 ]
 
 WITHOUT_SIGNS = [
     (new_wishes, lambda: [3, ["?1", "?x"]]), (holds, lambda: [[1, 2], [2], [2, 1, 2]]), (least_rows, lambda: [[1, 2], [2]]),
-    (made_of, lambda: [[1, 2], [2], [2, 1, 2]]),
+    (made_of, lambda: [[1, 2], [2], [2, 1, 2]]), (shares, lambda: [[1, 2], 5]),
 ]
 
 
 class EveryCall(unittest.TestCase):
     def calls(self):
-        signs = sample_signs()
-        with_signs = [(lambda *handed, call=call: call(signs, *handed), make) for call, make in WITH_SIGNS]
-        return with_signs + WITHOUT_SIGNS
+        found = list(WITHOUT_SIGNS)
+        for signs, rows in ((sample_signs(), WITH_SIGNS), (bare_signs(), WITH_BARE_SIGNS)):
+            found.extend([(lambda *handed, call=call, signs=signs: call(signs, *handed), make) for call, make in rows])
+        return found
 
     def test_handed_in_stays(self):
         for call, make in self.calls():
