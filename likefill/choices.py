@@ -6,6 +6,7 @@ thing goes into each part. A wish takes in things as they come. A part that is n
 thing itself; no row has two of these.
 """
 
+from likefill.lists import each_once
 from likefill.rows import grown_rows
 from likefill.sides import is_block
 from likefill.terms import flat_sum, is_wish, walked
@@ -16,7 +17,7 @@ def sized_parts(pairs):
     parts = []
     for left, right in pairs:
         parts.extend(left + right)
-    different = [part for place, part in enumerate(parts) if part not in parts[:place]]
+    different = each_once(parts)
     sizes = [tuple([left.count(part) - right.count(part) for left, right in pairs]) for part in different]
     places = [place for place, size in enumerate(sizes) if any(size)]
     return [different[place] for place in places], [sizes[place] for place in places]
@@ -52,8 +53,9 @@ def bound_choices(parts, rows):
     for place, part in enumerate(parts):
         if not is_wish(part):
             fitting = [row for row in rows if row[place] > 0]
-            longer = [choice + [row] for choice in chosen for row in fitting]
-            chosen = [choice for choice in longer if not has_circle(parts, choice)]
+            chosen = [choice + [row] for choice in chosen for row in fitting]
+            if not is_block(part):
+                chosen = [choice for choice in chosen if not has_circle(parts, choice)]
     return chosen
 
 

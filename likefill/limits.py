@@ -17,19 +17,23 @@ def wishes_of(terms):
 def check_not_too_much(signs, terms):
     """Refuse flat terms that are too much, each by itself or by their wishes together."""
     for term in terms:
-        check_term_not_too_much(signs, term)
+        check_leaves(term)
+        for at in walked(term):
+            if not isinstance(at, str) and signs.nought(at[0]) is not None:
+                check_sum_not_too_much(at[1:])
+    check_wishes(terms)
+
+
+def check_leaves(term):
+    """Refuse a flat term with too many leaves."""
+    if len([at for at in walked(term) if isinstance(at, str)]) > MOST_LEAVES:
+        raise TooMuch(f"a term has more than {MOST_LEAVES} leaves")
+
+
+def check_wishes(terms):
+    """Refuse flat terms with too many wishes together."""
     if len(wishes_of(terms)) > MOST_WISHES:
         raise TooMuch(f"there are more than {MOST_WISHES} wishes")
-
-
-def check_term_not_too_much(signs, term):
-    """Refuse a flat term with too many leaves, or with a sum that has too many parts of a sort."""
-    within = walked(term)
-    if len([at for at in within if isinstance(at, str)]) > MOST_LEAVES:
-        raise TooMuch(f"a term has more than {MOST_LEAVES} leaves")
-    for at in within:
-        if not isinstance(at, str) and signs.nought(at[0]) is not None:
-            check_sum_not_too_much(at[1:])
 
 
 def check_sum_not_too_much(parts):

@@ -80,6 +80,11 @@ def order_key(term):
     return [order_mark(at) for at in walked(term)]
 
 
+def head(term):
+    """The name of the term's sign; a wish is its own."""
+    return term if isinstance(term, str) else term[0]
+
+
 def opened(name, term):
     """The parts of a flat term that is the sum of that name; of any other it alone."""
     if isinstance(term, tuple) and term[0] == name:

@@ -5,7 +5,7 @@ import itertools
 
 from likefill.fillings import filled, looked_over, new_wishes
 from likefill.signs import Signs
-from likefill.terms import flat_of_parts, is_wish, put_in, wishes
+from likefill.terms import flat, flat_of_parts, is_wish, put_in, wishes
 
 
 def sample_signs():
@@ -19,6 +19,19 @@ def sample_signs():
 def bare_signs():
     """Fixed a, b, c, f/1, g/2; the sums s and t, both without a nought."""
     return Signs([("a", 0), ("b", 0), ("c", 0), ("f", 1), ("g", 2)], [("s", ""), ("t", "")])
+
+
+def signs_of_sums(*sums):
+    """Fixed a, b, z, o, n, f/1, g/2, and these sums."""
+    return Signs([("a", 0), ("b", 0), ("z", 0), ("o", 0), ("n", 0), ("f", 1), ("g", 2)], sums)
+
+
+def signs_with_noughts():
+    """Signs of two and three sums: none has a nought, one, two, all."""
+    return [
+        signs_of_sums(("s", ""), ("t", "")), signs_of_sums(("s", "z"), ("t", "")), signs_of_sums(("s", ""), ("t", "o")), signs_of_sums(("s", "z"), ("t", "o")),
+        signs_of_sums(("s", "z"), ("t", "o"), ("u", "")), signs_of_sums(("s", "z"), ("t", "o"), ("u", "n")),
+    ]
 
 
 class Prickly:
@@ -131,10 +144,7 @@ def some_of(things):
 
 
 def matches(signs, pairs, found):
-    """All fillings beyond the found one that make the first of each pair the second, a flat term that stays as it is.
-
-    Where a sum has a nought, its parts in the first ones are to be wishes or without wishes.
-    """
+    """All fillings beyond the found one that make the first of each pair the second, a flat term that stays as it is."""
     if not pairs:
         yield found
         return
@@ -161,9 +171,12 @@ def sum_matches(signs, name, parts, things, rest, found):
     part = ([each for each in parts if each in found] or parts)[0]
     others = less(parts, [part])
     if not is_wish(part):
-        for taken in [thing for place, thing in enumerate(things) if thing not in things[:place]]:
-            for more in matches(signs, [(part, taken)], found):
-                yield from sum_matches(signs, name, others, less(things, [taken]), rest, more)
+        # A sum with a nought may become one part of the other sum, several together, or nothing of it.
+        falls = isinstance(part, tuple) and signs.nought(part[0])
+        for taken in some_of(things) if falls else [[thing] for place, thing in enumerate(things) if thing not in things[:place]]:
+            if taken or signs.nought(name) != "":
+                for more in matches(signs, [(part, flat_of_parts(signs, name, taken))], found):
+                    yield from sum_matches(signs, name, others, less(things, taken), rest, more)
     elif part in found:
         left = less(things, parts_in(signs, name, found[part]))
         if left is not None:
@@ -212,3 +225,95 @@ def assert_none_too_many(case, signs, one, other, fillings):
     names = wishes_of_two(signs, one, other)
     for told, another in itertools.permutations(fillings, 2):
         case.assertFalse(goes_through(signs, told, another, names), (one, other, told, another))
+
+
+def assert_cover_each_other(case, signs, names, fillings, others):
+    """Each of the fillings is, on the names, one of the others further, and the other way round."""
+    for left, right in ((fillings, others), (others, fillings)):
+        for filling in left:
+            case.assertTrue(any(goes_through(signs, each, filling, names) for each in right), (signs.sums(), filling, right))
+
+
+def some_term(chance, size, leaf_names, sum_names):
+    """A term of so many leaves."""
+    if chance.random() < 0.15:
+        return ("f", some_term(chance, size, leaf_names, sum_names))
+    if size == 1:
+        return chance.choice(leaf_names)
+    cuts = sorted(chance.sample(range(1, size), chance.randint(1, min(size - 1, 5))))
+    parts = [some_term(chance, end - begin, leaf_names, sum_names) for begin, end in zip([0] + cuts, cuts + [size])]
+    return ("g" if len(parts) == 2 and chance.random() < 0.3 else chance.choice(sum_names),) + tuple(parts)
+
+
+def lifted(chance, signs, filling, term):
+    """A term that the filling fills to this one, which is flat."""
+    names = chance.sample(sorted(filling), len(filling))
+    for wish in names:
+        if filling[wish] == term and chance.random() < 0.85:
+            return wish
+        beside = [name for name, nought in signs.sums() if nought == filling[wish] and name != term[0]]
+        if beside and chance.random() < 0.2:
+            return (beside[0], wish, lifted(chance, signs, {each: filling[each] for each in names if each != wish}, term))
+    if isinstance(term, str):
+        return term
+    if signs.nought(term[0]) is None:
+        return (term[0],) + tuple(lifted(chance, signs, filling, part) for part in term[1:])
+    parts, found = list(term[1:]), []
+    for wish in names * 2:
+        left = less(parts, parts_in(signs, term[0], filling[wish]))
+        if left is not None and (left or found) and chance.random() < 0.8:
+            parts = left
+            found.append(wish)
+    found.extend(lifted(chance, signs, filling, part) for part in parts)
+    return (term[0],) + tuple(found) if len(found) > 1 else found[0]
+
+
+def set_otherwise(chance, signs, term):
+    """A term that is alike: parts exchanged, brackets set otherwise, noughts beside."""
+    beside = [name for name, nought in signs.sums() if nought != ""]
+    if beside and chance.random() < 0.3:
+        name = chance.choice(beside)
+        pair = [set_otherwise(chance, signs, term), signs.nought(name)]
+        return (name,) + tuple(chance.sample(pair, 2))
+    if isinstance(term, str):
+        return term
+    parts = [set_otherwise(chance, signs, part) for part in term[1:]]
+    if signs.nought(term[0]) is not None:
+        chance.shuffle(parts)
+        while len(parts) > 2 and chance.random() < 0.6:
+            begin = chance.randrange(len(parts) - 1)
+            parts[begin:begin + 2] = [(term[0],) + tuple(parts[begin:begin + 2])]
+    return (term[0],) + tuple(parts)
+
+
+def planted(chance, signs, names):
+    """Two terms, and a filling of the names that makes them alike, without wishes in its terms."""
+    sum_names = [name for name, nought in signs.sums()]
+    noughts = [nought for name, nought in signs.sums() if nought != ""]
+    filling = {wish: flat(signs, some_term(chance, chance.choice([1, 1, 2, 3]), ["a", "b"] + noughts, sum_names)) for wish in names}
+    one = flat(signs, some_term(chance, chance.randint(2, 7), names * 3 + ["a", "b"], sum_names))
+    return one, lifted(chance, signs, filling, put_in(signs, filling, one)), filling
+
+
+def too_much():
+    """Pairs of terms that are too much, of all sample signs."""
+    return [
+        # wishes
+        (("s", "?a", "?b", "?c", "?d", "?e"), "a"), (("g", "?a", ("g", "?b", "?c")), ("g", "?d", "?e")), (("g", "?a", ("s", "?b", "?c")), ("g", "?b", ("g", "?d", "?e"))),
+        # leaves
+        (("g", ("s", "a", "a", "a", "a"), ("s", "a", "b", "a", "a", "a")), "a"), ("?x", ("s", ("t", "a", "a", "a", "a", "a"), ("t", "a", "b", "a", "a"))),
+        # parts of a sum, anywhere
+        (("s",) + ("a",) * 7, "?x"), (("f", ("t",) + ("a",) * 7), "?x"), (("s", "a", ("s", "a", "b", "a"), ("s", "a", "b", "a")), "?x"), (("s", "a", ("f", ("s",) + ("a",) * 7)), "?x"),
+        # a wish among a sum's parts, anywhere
+        (("s", "?x", "?x", "?x"), "a"), (("s", "?x", ("s", "?x", "?x")), "a"), (("f", ("t", "?x", "a", ("t", "?x", "?x"))), "a"), ("?y", ("g", "a", ("s", "?x", "?x", "a", "?x"))),
+    ]
+
+
+def not_too_much():
+    """Pairs of terms that are just not too much, and can be made alike."""
+    return [
+        (("s", "?a", "?b"), ("s", "?c", "?d")), (("g", "?a", ("g", "?b", "?c")), ("g", "?d", "?a")), (("g", ("s", "a", "a", "a", "a"), ("s", "a", "b", "a", "a")), "?x"),
+        (("s",) + ("a",) * 6, "?x"), (("s", "a", ("s", "a", "b"), ("s", "a", "b", "a")), "?x"), (("s", "?x", "?x"), ("s", "?y", "?y")),
+        (("s", "?x", "?x", ("f", "?x"), ("t", "?x", "?x", "a")), "?y"), (("g", ("s", "?x", "?x"), ("s", "?x", "?x")), ("g", "?y", "?y")),
+        (("s", ("t", "a", "a", "a", "a"), ("t", "a", "b", "a", "a")), "?x"),
+    ]

@@ -155,6 +155,16 @@ class Rows(unittest.TestCase):
             for each in node.args.args + node.args.kwonlyargs:
                 self.assertFalse(hasattr(builtins, each.arg), (where, each.arg))
 
+    def test_locals_are_not_called_like_what_a_file_draws_in(self):
+        for path, tree in trees().items():
+            drawn = [each.name for node in tree.body if isinstance(node, ast.ImportFrom) for each in node.names]
+            drawn.extend(node.name for node in tree.body if isinstance(node, ast.ClassDef))
+            for node in ast.walk(tree):
+                if isinstance(node, ast.arg):
+                    self.assertNotIn(node.arg, drawn, (path, node.lineno))
+                if isinstance(node, ast.Name) and isinstance(node.ctx, ast.Store):
+                    self.assertNotIn(node.id, drawn, (path, node.lineno))
+
     def test_names(self):
         for name, node in all_nodes():
             if isinstance(node, (ast.Name, ast.FunctionDef, ast.ClassDef, ast.arg)):

@@ -4,7 +4,9 @@ import copy
 import unittest
 
 from common import bare_signs, kept_as_it_was, kinds, sample_signs, spoil
+from likefill.cover import cover
 from likefill.fillings import filled, further, kept, looked_over, new_wishes
+from likefill.oneside import ways
 from likefill.onesum import one_sum, rest_paper
 from likefill.rows import holds, least_rows, made_of
 from likefill.shares import shares
@@ -13,6 +15,7 @@ from likefill.solving import solved
 from likefill.steps import done, paired
 from likefill.terms import alike, flat, is_ahead, is_term, leaves, wishes
 from likefill.texts import read, write
+from likefill.through import through
 from likefill.walks import walk
 
 LISTS = ["s", ["s", "z", ["f", "?y"]], ("u", ["g", "b", "?x"], "a"), "z", ["t", "o", "o"]]
@@ -98,6 +101,10 @@ WITH_SIGNS = [
     (parts_under, lambda: ["s", fresh()]), (summed, lambda: ["s", [fresh(), ["f", ["s", "b", "a"]]]]), (is_side, lambda: ["s", fresh()]),
     (one_sum, lambda: ["u", ["u", "?x", "?y", ["s", "b", "a"]], ["u", "?z", ["s", "z", "b"], ["u", "a", "?x"]]]),
     (one_sum, lambda: ["s", ["s", "?x", "a"], ["s", "a", "?x"]]), (rest_paper, lambda: ["s", ["s", "?x", "?x"], ["s", ["f", ["s", "b", "a"]], "z"]]),
+    (cover, lambda: [["s", ["t", "?x", "?y"], ["f", ["s", "?y", "b"]]], ["s", ["f", ["s", "b", "z", "a"]], ["u", "b", "a"]]]), (cover, lambda: [["s", "?x", "?y"], ["t", "?z", ["f", "a"]]]),
+    (cover, lambda: ["a", "a"]), (ways, lambda: [["s", "?x", ["t", "?y", "a"]], ["s", ["s", "z", "?x"], ["f", "b"], "a"]]), (ways, lambda: ["a", ["s", "a", "z"]]),
+    (through, lambda: [filling(), {"?x": ["s", "a", "b"], "?y": ["f", ["g", ["s", "b", "a"], "b"]]}, ["?x"]]), (through, lambda: [{"?x": ["s", "?1", "?2"]}, {"?x": ["s", "b", ["f", "a"]]}, ["?x", "?y"]]),
+    (through, lambda: [{"?x": "a"}, {"?x": ["f", "a"]}, ["?x"]]), (through, lambda: [{}, {}, []]),
 ]
 
 WITH_BARE_SIGNS = [

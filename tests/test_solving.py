@@ -1,11 +1,10 @@
 """Fillings that cover two terms, where no sum has a nought."""
 
-import itertools
 import random
 import unittest
 
-from common import (as_lists, assert_make_alike, assert_none_missing, bare_signs, goes_through, less, odd_things, parts_in, sample_signs, small_terms,
-                    wishes_of_two)
+from common import (as_lists, assert_make_alike, assert_none_missing, bare_signs, goes_through, lifted, not_too_much, odd_things, sample_signs, small_terms,
+                    some_term, too_much, wishes_of_two)
 from likefill.errors import NoSigns, NoTerm, TooMuch
 from likefill.onesum import one_sum
 from likefill.signs import Signs
@@ -96,8 +95,8 @@ class Solved(unittest.TestCase):
     def try_planted(self, chance):
         """Fill a term, and make another one of what comes out by setting the wishes in again elsewhere."""
         signs, names = bare_signs(), ["?x", "?y", "?z", "?w"][:chance.randint(1, 4)]
-        filling = {wish: flat(signs, some_term(chance, chance.choice([1, 1, 2, 3]), "abc")) for wish in names}
-        one = flat(signs, some_term(chance, chance.randint(2, 8), names * 3 + ["a", "b", "c"]))
+        filling = {wish: flat(signs, some_term(chance, chance.choice([1, 1, 2, 3]), "abc", "sst")) for wish in names}
+        one = flat(signs, some_term(chance, chance.randint(2, 8), names * 3 + ["a", "b", "c"], "sst"))
         other = lifted(chance, signs, filling, put_in(signs, filling, one))
         try:
             told = solved(signs, one, other)
@@ -135,37 +134,6 @@ class Solved(unittest.TestCase):
             assert_make_alike(self, signs, one, other, told)
 
 
-def some_term(chance, size, leaf_names):
-    """A term of so many leaves."""
-    if chance.random() < 0.15:
-        return ("f", some_term(chance, size, leaf_names))
-    if size == 1:
-        return chance.choice(leaf_names)
-    cuts = sorted(chance.sample(range(1, size), chance.randint(1, min(size - 1, 5))))
-    parts = [some_term(chance, end - begin, leaf_names) for begin, end in zip([0] + cuts, cuts + [size])]
-    return ("g" if len(parts) == 2 and chance.random() < 0.3 else chance.choice("sst"),) + tuple(parts)
-
-
-def lifted(chance, signs, filling, term):
-    """A term that the filling fills to this one, which is flat."""
-    names = chance.sample(sorted(filling), len(filling))
-    for wish in names:
-        if filling[wish] == term and chance.random() < 0.85:
-            return wish
-    if isinstance(term, str):
-        return term
-    if signs.nought(term[0]) is None:
-        return (term[0],) + tuple(lifted(chance, signs, filling, part) for part in term[1:])
-    parts, found = list(term[1:]), []
-    for wish in names * 2:
-        left = less(parts, parts_in(signs, term[0], filling[wish]))
-        if left is not None and (left or found) and chance.random() < 0.8:
-            parts = left
-            found.append(wish)
-    found.extend(lifted(chance, signs, filling, part) for part in parts)
-    return (term[0],) + tuple(found) if len(found) > 1 else found[0]
-
-
 class Refused(unittest.TestCase):
     def assert_refused(self, error, one, other, signs):
         self.assertRaises(error, solved, signs, one, other)
@@ -177,20 +145,8 @@ class Refused(unittest.TestCase):
                 for other in ("a", wrong, ("s",) + ("a",) * 7):
                     self.assert_refused(NoTerm, wrong, other, signs)
 
-    def too_much(self):
-        return [
-            # wishes
-            (("s", "?a", "?b", "?c", "?d", "?e"), "a"), (("g", "?a", ("g", "?b", "?c")), ("g", "?d", "?e")), (("g", "?a", ("s", "?b", "?c")), ("g", "?b", ("g", "?d", "?e"))),
-            # leaves
-            (("g", ("s", "a", "a", "a", "a"), ("s", "a", "b", "a", "a", "a")), "a"), ("?x", ("s", ("t", "a", "a", "a", "a", "a"), ("t", "a", "b", "a", "a"))),
-            # parts of a sum, anywhere
-            (("s",) + ("a",) * 7, "?x"), (("f", ("t",) + ("a",) * 7), "?x"), (("s", "a", ("s", "a", "b", "a"), ("s", "a", "b", "a")), "?x"), (("s", "a", ("f", ("s",) + ("a",) * 7)), "?x"),
-            # a wish among a sum's parts, anywhere
-            (("s", "?x", "?x", "?x"), "a"), (("s", "?x", ("s", "?x", "?x")), "a"), (("f", ("t", "?x", "a", ("t", "?x", "?x"))), "a"), ("?y", ("g", "a", ("s", "?x", "?x", "a", "?x"))),
-        ]
-
     def test_what_is_too_much(self):
-        for one, other in self.too_much():
+        for one, other in too_much():
             self.assert_refused(TooMuch, one, other, bare_signs())
             self.assert_refused(TooMuch, as_lists(one), as_lists(other), bare_signs())
 
@@ -198,16 +154,8 @@ class Refused(unittest.TestCase):
         for term in [("s",) + ("a",) * 7, ("s", "?x", "?x", "?x"), ("g", ("s", "?a", "?b", "?c"), ("s", "?d", "?e"))]:
             self.assert_refused(TooMuch, term, term, bare_signs())
 
-    def not_too_much(self):
-        return [
-            (("s", "?a", "?b"), ("s", "?c", "?d")), (("g", "?a", ("g", "?b", "?c")), ("g", "?d", "?a")), (("g", ("s", "a", "a", "a", "a"), ("s", "a", "b", "a", "a")), "?x"),
-            (("s",) + ("a",) * 6, "?x"), (("s", "a", ("s", "a", "b"), ("s", "a", "b", "a")), "?x"), (("s", "?x", "?x"), ("s", "?y", "?y")),
-            (("s", "?x", "?x", ("f", "?x"), ("t", "?x", "?x", "a")), "?y"), (("g", ("s", "?x", "?x"), ("s", "?x", "?x")), ("g", "?y", "?y")),
-            (("s", ("t", "a", "a", "a", "a"), ("t", "a", "b", "a", "a")), "?x"),
-        ]
-
     def test_what_is_not_too_much(self):
-        for one, other in self.not_too_much():
+        for one, other in not_too_much():
             for left, right in ((one, other), (other, one)):
                 told = solved(bare_signs(), left, right)
                 self.assertTrue(told, (one, other))
@@ -226,9 +174,9 @@ class Refused(unittest.TestCase):
     def test_a_nought_behind_all_other_refusals(self):
         for signs in (Signs([("a", 0), ("b", 0), ("z", 0), ("f", 1), ("g", 2)], [("s", "z"), ("t", "")]),
                       Signs([("a", 0), ("b", 0), ("z", 0), ("f", 1), ("g", 2)], [("s", ""), ("t", "z")])):
-            for one, other in self.not_too_much() + [("a", "a"), ("a", "b"), ("?x", ("f", "a"))]:
+            for one, other in not_too_much() + [("a", "a"), ("a", "b"), ("?x", ("f", "a"))]:
                 self.assert_refused(NoSigns, one, other, signs)
-            for one, other in self.too_much():
+            for one, other in too_much():
                 self.assert_refused(TooMuch, one, other, signs)
             self.assert_refused(NoTerm, "nix", ("s",) + ("a",) * 7, signs)
 
