@@ -33,10 +33,9 @@ def branches(signs, names, trial):
     ready = [group for group in groups if group.loose is None]
     if any([is_stranded(signs, group) for group in ready]):
         return []
-    for group in ready:
-        pair = undecided(group)
-        if pair is not None:
-            return by_two(trial, pair)
+    pairs = [counted for group in ready for counted in undecided(group)]
+    if pairs:
+        return by_two(trial, min(pairs, key=lambda counted: counted[0])[1])
     if not ready:
         return by_two(trial, groups[0].loose)
     return by_choices(signs, names, trial, ready)

@@ -60,22 +60,33 @@ def are_foes(signs, apart, part, other):
     return head(part) != head(other) or not may_be_alike(signs, part, other)
 
 
+def partners(group, place, number):
+    """The places of parts across in that equation that may share something with the part at the place."""
+    own = group.sizes[place][number]
+    across = [at for at, size in enumerate(group.sizes) if own * size[number] < 0]
+    return [at for at in across if at not in group.foes[place]]
+
+
 def is_stranded(signs, group):
-    """Whether a part that must get something can share nothing with any part on the other side of an equation."""
-    nought = signs.nought(group.name)
+    """Whether a part that must get something can share nothing with any part across in an equation."""
     for place, size in enumerate(group.sizes):
-        if nought == "" or not is_wish(group.parts[place]):
+        if signs.nought(group.name) == "" or not is_wish(group.parts[place]):
             for number, own in enumerate(size):
-                across = [at for at, other in enumerate(group.sizes) if own * other[number] < 0]
-                if own != 0 and all([at in group.foes[place] for at in across]):
+                if own != 0 and not partners(group, place, number):
                     return True
     return False
 
 
 def undecided(group):
-    """Two of the group's parts, no wishes, of which it is open whether they are to be alike; or None."""
+    """All pairs of the group's parts, no wishes, of which it is open whether they are to be alike.
+
+    Beside each stands a number: the fewer partners one of the two has, the sooner is it told by the other ones.
+    """
+    found = []
     for place, part in enumerate(group.parts):
-        for at, other in enumerate(group.parts[:place]):
-            if not is_wish(part) and not is_wish(other) and at not in group.foes[place]:
-                return (part, other)
-    return None
+        for at, other in enumerate(group.parts):
+            if at not in group.foes[place] and not is_wish(part) and not is_wish(other):
+                across = [number for number, own in enumerate(group.sizes[place]) if own * group.sizes[at][number] < 0]
+                counts = [len(partners(group, place, number)) for number in across]
+                found.append((min(counts, default=len(group.parts)), (part, other)))
+    return found

@@ -71,8 +71,9 @@ def bind(signs, search, wish, thing):
 def take_sum(signs, search, name, parts, things):
     """Take what is left of a sum into the search; tell whether it may come to something."""
     nought = signs.nought(name)
-    open_parts = [part for part in parts if not is_block(part)]
-    left = less(things, [part for part in parts if is_block(part)])
+    blocks = [part for part in parts if is_block(part)]
+    open_parts = [part for part in parts if part not in blocks]
+    left = less(things, blocks)
     if left is None or (not open_parts and left):
         return False
     if nought == "" and len(open_parts) > len(left):

@@ -91,7 +91,6 @@ def with_next_first(firsts, left, sizes):
     found = []
     for place, goal in enumerate(left):
         rest = tuple([own - part for own, part in zip(goal, sizes[len(firsts)])])
-        fits = goal not in left[:place] and min(rest) >= 0
-        if fits and one_row_for(sizes, rest) is not None:
+        if goal not in left[:place] and one_row_for(sizes, rest) is not None:
             found.append((firsts + [place], left[:place] + [rest] + left[place + 1:]))
     return found

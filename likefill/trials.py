@@ -82,6 +82,8 @@ def may_be_alike(signs, one, other):
 
 def stand_in(joined, part):
     """The one part that stands for all that are to be alike this one."""
+    if not any([part in pair for pair in joined]):
+        return part
     found = [part]
     todo = [part]
     while todo:

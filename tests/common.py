@@ -8,6 +8,42 @@ from likefill.signs import Signs
 from likefill.terms import flat, flat_of_parts, is_wish, put_in, wishes
 
 
+# of the sums s with nought z, t with nought o, u with none: two terms, and one filling that covers them, or None
+ONE_FILLING_OR_NONE = [
+    # fixed signs alone
+    ("a", "a", {}), ("a", "b", None), ("?x", "?x", {}), ("?x", "z", {"?x": "z"}), ("z", "o", None), ("z", "z", {}), (("f", "?x"), ("f", "z"), {"?x": "z"}), (("f", "?x"), "z", None),
+    (("g", "?x", "?y"), ("g", ("f", "?y"), "a"), {"?x": ("f", "a"), "?y": "a"}), ("?x", ("f", "?x"), None), (("g", "?x", "?x"), ("g", "z", "o"), None),
+    # wishes that become the nought
+    (("s", "?x", "a"), "a", {"?x": "z"}), (("s", "?x", "?y"), "z", {"?x": "z", "?y": "z"}), (("s", "?x", "?x"), "z", {"?x": "z"}), (("s", "?x", "?x"), "a", None),
+    (("s", "?x", "?x", "a"), ("s", "?x", "a"), {"?x": "z"}), (("s", "?x", "?y", "a"), ("s", "?x", "a"), {"?y": "z"}), (("u", "?x", "a"), "a", None), (("u", "?x", "a"), "n", None),
+    (("s", "?x", ("f", "?x")), ("f", "z"), {"?x": "z"}), (("s", "?x", ("f", "?x")), ("f", "?x"), {"?x": "z"}), (("s", "?x", "a"), "z", None), (("t", "?x", "a"), "z", None),
+    (("g", ("s", "?x", "?y"), "?x"), ("g", "a", "z"), {"?x": "z", "?y": "a"}), (("s", "?x", "a"), ("s", "?x", "b"), None), (("s", "z", "?x"), "a", {"?x": "a"}),
+    # one wish for all, where there are noughts
+    (("s", "?x", "a"), ("s", "?y", "b"), {"?x": ("s", "?1", "b"), "?y": ("s", "?1", "a")}),
+    (("s", "?x", "?y"), "?x", {"?y": "z"}), (("s", "?x", "?x", "?y"), ("s", "?x", "?x"), {"?y": "z"}), (("s", "?x", "?y"), ("s", "?x", "?v"), {"?y": "?v"}),
+    (("s", "?x", "?y"), ("s", "?v", "?w"), {"?x": ("s", "?1", "?2"), "?y": ("s", "?3", "?4"), "?v": ("s", "?1", "?3"), "?w": ("s", "?2", "?4")}),
+    (("s", "?x", "?x"), ("s", "?y", "?v"), {"?x": ("s", "?1", "?2", "?3"), "?y": ("s", "?1", "?1", "?2"), "?v": ("s", "?2", "?3", "?3")}),
+    # a wish within itself
+    ("?x", ("s", "?x", "?y"), {"?y": "z"}), ("?x", ("s", "?x", "a"), None), ("?x", ("s", "?x", ("f", "?x")), None), ("?x", ("u", "?x", "?y"), None), ("?x", ("s", "?y", ("f", "?x")), None),
+    ("?x", ("s", ("t", "?x", "a"), "?y"), None), (("g", "?x", "?y"), ("g", ("s", "?y", "a"), ("s", "?x", "b")), None), (("g", "?x", "?y"), ("g", ("s", "?y", "?v"), ("s", "?x", "?v")), {"?x": "?y", "?v": "z"}),
+    (("g", "?x", "?y"), ("g", ("s", "?y", "?v"), ("t", "?x", "a")), None), (("u", "?x", "?y"), ("u", ("s", "?x", "a"), "?y"), None), ("?x", ("s", ("t", "?x", "?y"), "a"), None),
+    # a sum within another sum, falling away as its wishes do
+    (("t", "?x", ("s", "?y", "a")), "a", {"?x": "o", "?y": "z"}), (("s", "a", "?x"), ("t", "a", "?y"), {"?x": "z", "?y": "o"}), (("s", "?x", "a"), ("t", "?y", "b"), None),
+    (("s", "?x", "?y"), ("t", "?x", "?y"), None), (("s", "?x", "?x"), ("t", "?y", "?y"), None), (("u", ("s", "?x", "a"), "b"), ("u", "a", ("t", "?y", "b")), {"?x": "z", "?y": "o"}),
+    (("u", ("s", "?x", "?y"), "?x"), ("u", "z", "z"), {"?x": "z", "?y": "z"}), (("s", ("t", "?x", "?x"), "a"), ("s", "a", ("t", "a", "a")), {"?x": "a"}),
+    (("s", ("t", "?x", "?x"), "?y"), "z", None), (("s", ("t", "?x", "?x"), "?y"), ("s", "o", "a"), {"?x": "o", "?y": "a"}), (("s", ("t", "?x", "b"), "a"), ("s", "a", "b"), {"?x": "o"}),
+]
+
+# of the same sums: two terms with several fillings
+SEVERAL_FILLINGS = [
+    (("s", ("t", "?x", "?y"), "a"), "a"), (("s", "?x", "a"), ("t", "?y", "?v")), (("s", ("t", "?x", "?y"), "?v"), ("s", "a", "b")), (("s", "?x", "?y"), ("s", "a", "b")),
+    (("t", ("s", "?x", "?y"), ("s", "?y", "a")), ("t", "a", "?v")), (("t", ("s", "?x", "a"), "?y"), ("s", ("t", "?y", "a"), "?x")),
+    (("s", "?x", ("t", "?x", "?y")), ("s", "a", "?v")), (("g", ("s", "?x", "?y"), ("t", "?x", "?w")), ("g", "?v", "?v")), (("u", "?x", "?y"), ("u", ("s", "?v", "a"), ("t", "?v", "a"))),
+    (("s", "?x", "?x", ("f", "?y")), ("s", ("f", "a"), "?y", "?v")), (("t", "?x", ("s", "?x", "?y")), ("t", "?v", "a")), (("s", ("t", "?x", ("s", "?y", "?v")), "a"), ("s", "a", "a")),
+    (("g", "?x", "?y"), ("g", ("s", "?y", "?v"), ("t", "?x", "?w"))), ("?x", ("s", ("t", "?x", "?y"), "?v")), (("s", ("t", "?x", "?y"), "?x"), "?x"),
+]
+
+
 def sample_signs():
     """Fixed a, b, z, o, f/1, g/2, h/3; the sums s (nought z), t (nought o) and u (none)."""
     return Signs(
@@ -293,6 +329,20 @@ def planted(chance, signs, names):
     filling = {wish: flat(signs, some_term(chance, chance.choice([1, 1, 2, 3]), ["a", "b"] + noughts, sum_names)) for wish in names}
     one = flat(signs, some_term(chance, chance.randint(2, 7), names * 3 + ["a", "b"], sum_names))
     return one, lifted(chance, signs, filling, put_in(signs, filling, one)), filling
+
+
+def crowded(chance, signs, names):
+    """Two sums of one sign with many wishes among their parts, so that there are often many fillings."""
+    sum_names = [name for name, nought in signs.sums()]
+
+    def part():
+        sort = chance.random()
+        if sort < 0.7:
+            return chance.choice(names)
+        return chance.choice(["a", "b", ("f", chance.choice(names)), (chance.choice(sum_names), chance.choice(names), chance.choice(names + ["a"]))])
+
+    name = chance.choice(sum_names)
+    return tuple((name,) + tuple(part() for time in range(chance.randint(2, 4))) for side in range(2))
 
 
 def too_much():

@@ -4,7 +4,7 @@ import itertools
 import random
 import unittest
 
-from common import (as_lists, assert_cover_each_other, assert_make_alike, assert_none_missing, goes_through, not_too_much, odd_things, planted, sample_signs, set_otherwise, signs_of_sums,
+from common import (ONE_FILLING_OR_NONE, SEVERAL_FILLINGS, as_lists, assert_cover_each_other, assert_make_alike, assert_none_missing, goes_through, not_too_much, odd_things, planted, sample_signs, set_otherwise, signs_of_sums,
                     signs_with_noughts, small_terms, too_much, wishes_of_two)
 from likefill.cover import cover
 from likefill.errors import NoTerm, TooMuch
@@ -14,49 +14,13 @@ from likefill.terms import flat
 
 UNIVERSE = ["a", "z", "o", "?q", ("f", "a"), ("f", "z"), ("s", "a", "a"), ("s", "a", "o"), ("t", "a", "?q"), ("s", "a", ("t", "a", "a"))]
 
-# of the sums s with nought z, t with nought o, u with none: two terms, and one filling that covers them, or None
-PLAIN = [
-    # fixed signs alone
-    ("a", "a", {}), ("a", "b", None), ("?x", "?x", {}), ("?x", "z", {"?x": "z"}), ("z", "o", None), ("z", "z", {}), (("f", "?x"), ("f", "z"), {"?x": "z"}), (("f", "?x"), "z", None),
-    (("g", "?x", "?y"), ("g", ("f", "?y"), "a"), {"?x": ("f", "a"), "?y": "a"}), ("?x", ("f", "?x"), None), (("g", "?x", "?x"), ("g", "z", "o"), None),
-    # wishes that become the nought
-    (("s", "?x", "a"), "a", {"?x": "z"}), (("s", "?x", "?y"), "z", {"?x": "z", "?y": "z"}), (("s", "?x", "?x"), "z", {"?x": "z"}), (("s", "?x", "?x"), "a", None),
-    (("s", "?x", "?x", "a"), ("s", "?x", "a"), {"?x": "z"}), (("s", "?x", "?y", "a"), ("s", "?x", "a"), {"?y": "z"}), (("u", "?x", "a"), "a", None), (("u", "?x", "a"), "n", None),
-    (("s", "?x", ("f", "?x")), ("f", "z"), {"?x": "z"}), (("s", "?x", ("f", "?x")), ("f", "?x"), {"?x": "z"}), (("s", "?x", "a"), "z", None), (("t", "?x", "a"), "z", None),
-    (("g", ("s", "?x", "?y"), "?x"), ("g", "a", "z"), {"?x": "z", "?y": "a"}), (("s", "?x", "a"), ("s", "?x", "b"), None), (("s", "z", "?x"), "a", {"?x": "a"}),
-    # one wish for all, where there are noughts
-    (("s", "?x", "a"), ("s", "?y", "b"), {"?x": ("s", "?1", "b"), "?y": ("s", "?1", "a")}),
-    (("s", "?x", "?y"), "?x", {"?y": "z"}), (("s", "?x", "?x", "?y"), ("s", "?x", "?x"), {"?y": "z"}), (("s", "?x", "?y"), ("s", "?x", "?v"), {"?y": "?v"}),
-    (("s", "?x", "?y"), ("s", "?v", "?w"), {"?x": ("s", "?1", "?2"), "?y": ("s", "?3", "?4"), "?v": ("s", "?1", "?3"), "?w": ("s", "?2", "?4")}),
-    (("s", "?x", "?x"), ("s", "?y", "?v"), {"?x": ("s", "?1", "?2", "?3"), "?y": ("s", "?1", "?1", "?2"), "?v": ("s", "?2", "?3", "?3")}),
-    # a wish within itself
-    ("?x", ("s", "?x", "?y"), {"?y": "z"}), ("?x", ("s", "?x", "a"), None), ("?x", ("s", "?x", ("f", "?x")), None), ("?x", ("u", "?x", "?y"), None), ("?x", ("s", "?y", ("f", "?x")), None),
-    ("?x", ("s", ("t", "?x", "a"), "?y"), None), (("g", "?x", "?y"), ("g", ("s", "?y", "a"), ("s", "?x", "b")), None), (("g", "?x", "?y"), ("g", ("s", "?y", "?v"), ("s", "?x", "?v")), {"?x": "?y", "?v": "z"}),
-    (("g", "?x", "?y"), ("g", ("s", "?y", "?v"), ("t", "?x", "a")), None), (("u", "?x", "?y"), ("u", ("s", "?x", "a"), "?y"), None), ("?x", ("s", ("t", "?x", "?y"), "a"), None),
-    # a sum within another sum, falling away as its wishes do
-    (("t", "?x", ("s", "?y", "a")), "a", {"?x": "o", "?y": "z"}), (("s", "a", "?x"), ("t", "a", "?y"), {"?x": "z", "?y": "o"}), (("s", "?x", "a"), ("t", "?y", "b"), None),
-    (("s", "?x", "?y"), ("t", "?x", "?y"), None), (("s", "?x", "?x"), ("t", "?y", "?y"), None), (("u", ("s", "?x", "a"), "b"), ("u", "a", ("t", "?y", "b")), {"?x": "z", "?y": "o"}),
-    (("u", ("s", "?x", "?y"), "?x"), ("u", "z", "z"), {"?x": "z", "?y": "z"}), (("s", ("t", "?x", "?x"), "a"), ("s", "a", ("t", "a", "a")), {"?x": "a"}),
-    (("s", ("t", "?x", "?x"), "?y"), "z", None), (("s", ("t", "?x", "?x"), "?y"), ("s", "o", "a"), {"?x": "o", "?y": "a"}), (("s", ("t", "?x", "b"), "a"), ("s", "a", "b"), {"?x": "o"}),
-]
-
-# of the same sums: two terms with several fillings
-SEVERAL = [
-    (("s", ("t", "?x", "?y"), "a"), "a"), (("s", "?x", "a"), ("t", "?y", "?v")), (("s", ("t", "?x", "?y"), "?v"), ("s", "a", "b")), (("s", "?x", "?y"), ("s", "a", "b")),
-    (("u", "?x", ("s", "?x", "?y")), ("u", "a", ("s", "a", "?v"))), (("t", ("s", "?x", "?y"), ("s", "?y", "a")), ("t", "a", "?v")), (("t", ("s", "?x", "a"), "?y"), ("s", ("t", "?y", "a"), "?x")),
-    (("s", "?x", ("t", "?x", "?y")), ("s", "a", "?v")), (("g", ("s", "?x", "?y"), ("t", "?x", "?w")), ("g", "?v", "?v")), (("u", "?x", "?y"), ("u", ("s", "?v", "a"), ("t", "?x", "a"))),
-    (("s", "?x", "?x", ("f", "?y")), ("s", ("f", "a"), "?y", "?v")), (("t", "?x", ("s", "?x", "?y")), ("t", "?v", "a")), (("s", ("t", "?x", ("s", "?y", "?v")), "a"), ("s", "a", "a")),
-    (("g", "?x", "?y"), ("g", ("s", "?y", "?v"), ("t", "?x", "?w"))), ("?x", ("s", ("t", "?x", "?y"), "?v")), (("s", ("t", "?x", "?y"), "?x"), "?x"),
-]
-
-
 class Cover(unittest.TestCase):
     def assert_cover_each_other(self, signs, one, other, fillings, others):
         assert_cover_each_other(self, signs, wishes_of_two(signs, one, other), fillings, others)
 
     def test_one_filling_or_none(self):
         signs = signs_of_sums(("s", "z"), ("t", "o"), ("u", ""))
-        for one, other, wanted in PLAIN:
+        for one, other, wanted in ONE_FILLING_OR_NONE:
             for left, right in ((one, other), (other, one), (as_lists(one), as_lists(other))):
                 told = cover(signs, left, right)
                 assert_make_alike(self, signs, one, other, told)
@@ -65,7 +29,7 @@ class Cover(unittest.TestCase):
 
     def test_several_fillings(self):
         for signs in (signs_of_sums(("s", "z"), ("t", "o"), ("u", "")), signs_of_sums(("s", "z"), ("t", "o"), ("u", "n"))):
-            for one, other in SEVERAL:
+            for one, other in SEVERAL_FILLINGS:
                 told = cover(signs, one, other)
                 self.assertGreater(len(told), 1, (one, other))
                 assert_make_alike(self, signs, one, other, told)

@@ -4,15 +4,19 @@ import copy
 import unittest
 
 from common import bare_signs, kept_as_it_was, kinds, sample_signs, spoil
+from likefill.clashes import clash
 from likefill.cover import cover
+from likefill.desk import Desk
 from likefill.fillings import filled, further, kept, looked_over, new_wishes
 from likefill.oneside import ways
 from likefill.onesum import one_sum, rest_paper
+from likefill.pairs import table_of
 from likefill.rows import holds, least_rows, made_of
 from likefill.shares import shares
 from likefill.sides import is_side, parts_under, summed
 from likefill.solving import solved
 from likefill.steps import done, paired
+from likefill.tables import made_least, table
 from likefill.terms import alike, flat, is_ahead, is_term, leaves, wishes
 from likefill.texts import read, write
 from likefill.through import through
@@ -105,6 +109,11 @@ WITH_SIGNS = [
     (cover, lambda: ["a", "a"]), (ways, lambda: [["s", "?x", ["t", "?y", "a"]], ["s", ["s", "z", "?x"], ["f", "b"], "a"]]), (ways, lambda: ["a", ["s", "a", "z"]]),
     (through, lambda: [filling(), {"?x": ["s", "a", "b"], "?y": ["f", ["g", ["s", "b", "a"], "b"]]}, ["?x"]]), (through, lambda: [{"?x": ["s", "?1", "?2"]}, {"?x": ["s", "b", ["f", "a"]]}, ["?x", "?y"]]),
     (through, lambda: [{"?x": "a"}, {"?x": ["f", "a"]}, ["?x"]]), (through, lambda: [{}, {}, []]),
+    (made_least, lambda: [[filling(), {"?x": ["s", "?1", ["f", "?2"]]}, {}, {"?y": ["f", ["s", "b", "a"]]}], ["?x", "?y"]]), (made_least, lambda: [[], []]), (made_least, lambda: [[{}, {"?x": "a"}], []]),
+    (table, lambda: [["s", ["t", "?x", "?y"], ["f", ["s", "?y", "b"]]], ["s", ["f", ["s", "b", "z", "a"]], ["u", "b", "a"]]]), (table, lambda: [["u", "?x", "?y"], ["u", "?z", ["f", "a"]]]), (table, lambda: [["f", "a"], "a"]),
+    (clash, lambda: [["g", "?x", ["f", ["s", "z", "a"]]], ["g", "b", ["f", ["s", "b", "z"]]]]), (clash, lambda: ["?x", ["s", ["f", "?x"], "a"]]), (clash, lambda: [["s", "b", "a"], "?x"]),
+    (table_of, lambda: [[[["s", "?x", "?y"], ["s", "b", "a"]], (["t", "?x", "o"], ["f", "?z"])]]), (table_of, lambda: [[]]), (table_of, lambda: [[["?x", ["s", "?y", ["f", "a"]]]]]),
+    (lambda signs, row: Desk(signs).take(row), lambda: ["flat s(b,z,a)"]), (lambda signs, row: Desk(signs).take(row), lambda: ["many u(?x,?y) = u(?v,?w)"]),
 ]
 
 WITH_BARE_SIGNS = [
