@@ -24,9 +24,9 @@ def matches(signs, pairs, first_alone):
                 searches.extend(more)
             else:
                 for filling in shared_out(signs, search, first_alone):
-                    found[repr([(wish, filling[wish]) for wish in sorted(filling)])] = filling
                     if first_alone:
                         return [filling]
+                    found[repr([(wish, filling[wish]) for wish in sorted(filling)])] = filling
     return list(found.values())
 
 

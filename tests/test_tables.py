@@ -50,6 +50,14 @@ class MadeLeast(unittest.TestCase):
         self.assert_least([{"?x": "a"}, {"?x": ("f", "?1")}, {"?x": ("f", ("f", "?1"))}, {"?x": "b"}], ["?x"], [{"?x": "a"}, {"?x": ("f", "?1")}, {"?x": "b"}])
         self.assert_least([{"?x": "a"}, {"?x": ("s", ("t", "?1", "?2"), "a")}], ["?x"], [{"?x": ("s", "a", ("t", "?1", "?2"))}])
 
+    def test_what_vanishes_as_wishes_are_filled(self):
+        for one, other in [
+            (("s", "a", ("t", "?1", "z")), "a"), (("u", "a", ("s", "?1", ("u", "a", "b"))), ("u", "a", "a", "b")), (("u", "a", ("s", "?1", "?2")), ("u", "a", "z")), (("t", "?1", "?2", "?3"), "b"),
+            (("f", ("s", ("t", "?1", "?2"), ("t", "?3", "?4"))), ("f", "z")), (("s", "?1", ("f", ("t", "?1", "?2", "a"))), ("f", ("t", "a", "z"))), (("u", ("s", "?1", ("t", "?2", ("u", "?3", "b"))), "a"), ("u", "a", "a", "b")),
+        ]:
+            self.assert_least([{"?x": one}, {"?x": other}], ["?x"], [{"?x": flat(sample_signs(), one)}])
+            self.assert_least([{"?x": other}, {"?x": one}], ["?x"], [{"?x": flat(sample_signs(), one)}])
+
     def test_some_wishes_alone_and_told_whole(self):
         one, other, third = {"?x": "a", "?y": "b", "?v": ["s", "z", "b", "a"], "?w": ["t", "?w", "o"]}, {"?x": "a", "?y": "a"}, {"?x": "b", "?y": "b"}
         whole = {"?x": "a", "?y": "b", "?v": ("s", "a", "b")}
