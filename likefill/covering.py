@@ -8,13 +8,14 @@ each choice of least rows of the parts is a trial of its own.
 from likefill.choices import all_choices, filling_of, pairs_of, things_of
 from likefill.fillings import new_wishes, without_idle
 from likefill.groups import groups_of, is_stranded, undecided
+from likefill.sides import is_block
 from likefill.terms import is_wish, put_in, walked
-from likefill.trials import Trial, by_two, fill, left_pairs, settle
+from likefill.trials import Trial, by_two, fill, settle
 
 
 def covering(signs, names, pairs):
     """Fillings of the names, all wishes of the pairs, that make the two of each pair alike; the pairs are flat."""
-    trials = [Trial({wish: wish for wish in names}, list(pairs), [], [], 0)]
+    trials = [first_trial(names, pairs)]
     found = {}
     while trials:
         trial = trials.pop()
@@ -25,6 +26,21 @@ def covering(signs, names, pairs):
                 filling = told_filling(signs, names, trial.so_far)
                 found[repr(filling)] = filling
     return list(found.values())
+
+
+def is_table(signs, names, pairs):
+    """Whether of the fillings that covering tells of these pairs it is plain that none is another one further."""
+    trial = first_trial(names, pairs)
+    if not settle(signs, trial):
+        return True
+    groups = groups_of(signs, trial)
+    # Under one sum, choices of least rows for wishes and blocks alone never lead to one another.
+    return len(groups) <= 1 and all([is_wish(part) or is_block(part) for group in groups for part in group.parts])
+
+
+def first_trial(names, pairs):
+    """The trial that begins with nothing filled."""
+    return Trial({wish: wish for wish in names}, list(pairs), [], [], 0)
 
 
 def branches(signs, names, trial):

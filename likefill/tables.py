@@ -1,13 +1,11 @@
 """Fillings made least, and tables: all fillings that make terms alike, none of them too many."""
 
-from likefill.covering import covering
+from likefill.covering import covering, is_table
 from likefill.fillings import looked_over
 from likefill.frozen import frozen
 from likefill.limits import check_not_too_much, wishes_of
 from likefill.marks import is_no_more, marks_of_row, packed
 from likefill.matching import matches
-from likefill.onesum import one_sum
-from likefill.sides import is_side
 from likefill.terms import flat
 
 
@@ -58,13 +56,11 @@ def table(signs, one, other):
     """The table of two terms."""
     terms = [flat(signs, one), flat(signs, other)]
     check_not_too_much(signs, terms)
-    for name, nought in signs.sums():
-        if is_side(signs, name, terms[0]) and is_side(signs, name, terms[1]):
-            return one_sum(signs, name, terms[0], terms[1])
     return least_cover(signs, [(terms[0], terms[1])])
 
 
 def least_cover(signs, pairs):
     """The table of the pairs of flat terms, none of them too much."""
     names = wishes_of([term for pair in pairs for term in pair])
-    return least_ones(signs, covering(signs, names, pairs), names)
+    fillings = covering(signs, names, pairs)
+    return fillings if is_table(signs, names, pairs) else least_ones(signs, fillings, names)
