@@ -15,6 +15,16 @@ from likefill.terms import flat
 UNIVERSE = ["a", "z", "o", "?q", ("f", "a"), ("f", "z"), ("s", "a", "a"), ("s", "a", "o"), ("t", "a", "?q"), ("s", "a", ("t", "a", "a"))]
 
 
+# two terms of which a search part by part is apt to find fillings that are others further
+APT_TO_BE_TOO_MANY = [
+    (("s", "?x", "?y"), ("s", ("f", "?v"), ("f", "?w"))), (("s", "?x", "?y"), ("s", ("f", "?x"), ("f", "?v"))), (("s", "?x", "?y", ("f", "?x"), ("f", "?y")), ("s", "?v", "?w", ("f", "?v"))),
+    (("g", ("t", "?w", "?y"), ("s", "?x", "a")), ("g", ("t", "?v", "b"), ("s", "?w", "b"))), (("g", ("t", "?y", "b"), ("s", "?y", "b")), ("g", ("t", "?w", "?x"), ("s", "?v", "?w"))),
+    (("g", ("s", "?y", "?y"), ("t", "?x", "?y")), ("g", ("s", "?v", "?v"), ("t", "?v", "?w"))), (("g", ("s", "?x", "?x"), ("t", "?w", "?y")), ("g", ("s", "?v", "?y"), ("t", "?x", "a"))),
+    (("g", ("s", "?y", ("f", "?y")), ("t", "?v", "?y")), ("g", ("s", "?v", "?x"), ("t", "?w", "a"))), (("s", ("t", "?x", "?y"), ("t", "?v", "?w")), ("s", ("t", "?x", "?w"), ("t", "?y", "?v"))),
+    (("s", ("t", "?x", "?x"), "?w"), ("s", ("t", "a", "?v"), ("t", "?v", "?y"))), (("t", "?y", ("s", "a", "?y"), ("s", "b", "?y")), ("t", "?x", ("s", "?v", "?w"))),
+]
+
+
 class MadeLeast(unittest.TestCase):
     def assert_least(self, fillings, some, wanted):
         told = made_least(sample_signs(), fillings, some)
@@ -110,6 +120,13 @@ class Table(unittest.TestCase):
             self.assert_table(signs, one, other, told)
             assert_none_missing(self, signs, flat(signs, one), flat(signs, other), told, UNIVERSE)
 
+    def test_none_too_many(self):
+        for signs, (one, other) in itertools.product(signs_with_noughts(), APT_TO_BE_TOO_MANY):
+            told = table(signs, one, other)
+            self.assertTrue(told)
+            self.assert_table(signs, one, other, told)
+            assert_cover_each_other(self, signs, wishes_of_two(signs, one, other), told, cover(signs, one, other))
+
     def test_how_many(self):
         bare, noughts = signs_of_sums(("s", ""), ("t", "")), signs_of_sums(("s", "z"), ("t", "o"))
         for one, other, without, with_noughts in [
@@ -117,6 +134,7 @@ class Table(unittest.TestCase):
             (("s", "?x", "?y", "?v"), "?w", 1, 1), (("f", ("s", "?x", "?y")), ("f", ("s", "?v", "?w")), 7, 1), (("t", ("s", "?x", "?y"), ("s", "?v", "?w")), ("t", ("s", "a", "b"), ("s", "a", "b")), 4, 24),
             (("s", ("f", "?x"), ("f", "?y")), ("s", ("f", "a"), ("f", "b")), 2, 2), (("s", ("f", "?x"), "?y"), ("s", ("f", "a"), "?v"), 3, 2), (("s", "?x", ("t", "?x", "a")), ("s", "?y", ("t", "?y", "a")), 1, 1),
             (("s", ("t", "?x", "?y"), "a"), ("s", "a", "a"), 0, 2), (("g", ("s", "?x", "?y"), "?x"), ("g", ("s", "a", "a"), "?y"), 1, 1), (("s", "?x", "?y"), "z", 0, 1), (("s", "?x", "?x"), ("s", "a", "b"), 0, 0),
+            (("s", "?x", "?y"), ("s", ("f", "?v"), ("f", "?w")), 2, 4),
         ]:
             self.assertEqual((len(table(bare, one, other)), len(table(noughts, one, other))), (without, with_noughts), (one, other))
 
