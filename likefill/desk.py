@@ -55,7 +55,8 @@ def words_of(row):
     """The words of the row, between which stands one blank."""
     if not isinstance(row, str):
         raise NoRow("a row is a text")
-    words = row.split()
-    if " ".join(words) != row:
-        raise NoRow("between words stands one blank, and nothing else")
+    # Only the blank parts words: a tab or a line feed is a sign of the word that it stands in.
+    words = row.split(" ")
+    if "" in words:
+        raise NoRow("a word has one sign at least, and between words stands one blank")
     return words

@@ -32,8 +32,11 @@ NO_ROWS = [
     " ", "  ", " flat a", "flat a ", "flat  a", " flat  a ", "alike  a = b", "alike a  = b", "alike a =  b", " alike a = b", "alike a = b ", "flat s(a, b)", "alike s(a, b) = a", "many a = b  ",
     # other signs for "=", capitals
     "alike a == b", "alike a - b", "alike a : b", "alike a is b", "alike a ~ b", "many a := b", "clash a , b", "alike a eq b", "Flat a", "FLAT a", "Alike a = b", "ALIKE a = b", "Many a = b", "MANY a = b", "Ways a = b", "Clash a = b", "mANY a = b",
-    # tabs, line feeds
-    "flat\ta", "flat\na", "flat a\n", "\nflat a", "flat a\t", "\tflat a", "alike\ta\t=\tb", "alike a\t= b", "alike a = b\n", "alike a =\nb", "alike a\n=\nb", "flat\n", "flat \ta", "flat a\r\n", "flat a\nflat b", "\n", "\t",
+    # tabs, line feeds in the place of a blank, or within a word that is none for a term
+    "flat\ta", "flat\na", "\nflat a", "\tflat a", "flat\t a", "flat\n a\n", "fl\tat a", "alike\ta\t=\tb", "alike a\t= b", "alike a =\nb", "alike a\n=\nb", "alike\t a = b", "alike a =\t b", "alike a \n= b", "alike a \t b", "flat\n", "flat a\nflat b", "\n", "\t", "\n \t",
+    "flat\u00a0a", "flat\u3000a", "alike a\x1c= b", "alike a =\x0b b", "flat\u200b a",
+    # the same, and a blank too many
+    "flat a\n ", "flat  a\n", " flat a\t", "flat a\n b", "alike a\t  = b", "alike a = b\n ",
 ]
 
 
@@ -105,6 +108,19 @@ class Refused(unittest.TestCase):
                 for left, right in ((wrong, "a"), ("a", wrong), (wrong, wrong), (wrong, much), (much, wrong), (wrong, "="), ("=", "a")):
                     with self.assertRaises(NoText, msg=(word, left, right)):
                         desk.take(f"{word} {left} = {right}")
+
+    def test_signs_that_are_no_blanks(self):
+        desk = Desk(sample_signs())
+        for sign in ["\n", "\t", "\r", "\r\n", "\x0b", "\x0c", "\x00", "\x1c", "\x1f", "\x7f", "\x85", "\u00a0", "\u2003", "\u2028", "\u200b", "\u3000", "\ufeff"]:
+            for good in ("a", "?x", "f(a)", "s(a,?x)"):
+                places = range(len(good) + 1)
+                for wrong in [sign] + [good[:at] + sign + good[at:] for at in places]:
+                    with self.assertRaises(NoText, msg=repr(wrong)):
+                        desk.take(f"flat {wrong}")
+                    for word in ("alike", "many", "ways", "clash"):
+                        for left, right in ((wrong, "a"), ("a", wrong), (wrong, wrong)):
+                            with self.assertRaises(NoText, msg=repr((word, left, right))):
+                                desk.take(f"{word} {left} = {right}")
 
     def test_no_row_ahead_of_no_text(self):
         desk = Desk(sample_signs())
